@@ -18,15 +18,15 @@ var none = []int{}
 // shown is pieces as one text in which no two lists of pieces look alike.
 func shown(pieces [][]byte) string { return fmt.Sprintf("%q", pieces) }
 
-// cutsOf are all lists of at most most cuts, of some.
-func cutsOf(some []int, most int) [][]int {
-	all := [][]int{nil}
+// listsOf are all lists of at most most things, of some.
+func listsOf[T any](some []T, most int) [][]T {
+	all := [][]T{nil}
 	longest := all
 	for range most {
-		var longer [][]int
+		var longer [][]T
 		for _, l := range longest {
-			for _, c := range some {
-				longer = append(longer, append(slices.Clone(l), c))
+			for _, x := range some {
+				longer = append(longer, append(slices.Clone(l), x))
 			}
 		}
 		all = append(all, longer...)
@@ -60,23 +60,6 @@ func someText(n int) []byte {
 		b[i] = byte(255 + i)
 	}
 	return b
-}
-
-// shortTexts are all texts of at most most bytes, of some.
-func shortTexts(some string, most int) [][]byte {
-	all := [][]byte{nil}
-	longest := all
-	for range most {
-		var longer [][]byte
-		for _, t := range longest {
-			for _, c := range []byte(some) {
-				longer = append(longer, append(slices.Clone(t), c))
-			}
-		}
-		all = append(all, longer...)
-		longest = longer
-	}
-	return all
 }
 
 // places is P19.1, by bounds: what a place may not be below is the greatest of 0 and the cuts up to its own, as far as they are no more than n.
@@ -241,7 +224,7 @@ func TestPlacesByHand(t *testing.T) {
 
 func TestPlacesOfOneAndTwoCuts(t *testing.T) {
 	for _, n := range append(around(9), 255, 256) {
-		for _, l := range cutsOf(append(around(12), n), 2) {
+		for _, l := range listsOf(append(around(12), n), 2) {
 			checkPlaces(t, n, l)
 		}
 	}
@@ -249,11 +232,11 @@ func TestPlacesOfOneAndTwoCuts(t *testing.T) {
 
 func TestPlacesOfAllShortLists(t *testing.T) {
 	for _, n := range []int{math.MinInt, -1, 0, 1, 2, 3, 4} {
-		for _, l := range cutsOf(fewAround(max(n, 0)), 4) {
+		for _, l := range listsOf(fewAround(max(n, 0)), 4) {
 			checkPlaces(t, n, l)
 		}
 	}
-	for _, l := range cutsOf([]int{math.MinInt, 0, 3, math.MaxInt - 1, math.MaxInt}, 4) {
+	for _, l := range listsOf([]int{math.MinInt, 0, 3, math.MaxInt - 1, math.MaxInt}, 4) {
 		checkPlaces(t, math.MaxInt, l)
 		checkPlaces(t, math.MaxInt-1, l)
 	}
@@ -277,7 +260,7 @@ func TestPlacesAreInOrder(t *testing.T) {
 
 func TestPlacesOfPlaces(t *testing.T) {
 	for _, n := range []int{-1, 0, 1, 4} {
-		for _, l := range cutsOf(fewAround(4), 3) {
+		for _, l := range listsOf(fewAround(4), 3) {
 			once := cuts.Places(n, l...)
 			if twice := cuts.Places(n, once...); !slices.Equal(once, twice) {
 				t.Fatalf("Places(%d, %d) is %d, and of these %d", n, l, once, twice)
@@ -402,7 +385,7 @@ func TestPiecesByHand(t *testing.T) {
 
 func TestPiecesOfNil(t *testing.T) {
 	for _, text := range [][]byte{nil, {}, make([]byte, 0, 9), []byte("abc")[:0], []byte("abc")[3:]} {
-		for _, l := range cutsOf([]int{math.MinInt, -1, 0, 1, math.MaxInt}, 3) {
+		for _, l := range listsOf([]int{math.MinInt, -1, 0, 1, math.MaxInt}, 3) {
 			got := cuts.Pieces(text, l...)
 			if len(got) != len(l)+1 {
 				t.Fatalf("Pieces(nil, %d) is %s", l, shown(got))
@@ -418,7 +401,7 @@ func TestPiecesOfNil(t *testing.T) {
 
 func TestPiecesOfOneAndTwoCuts(t *testing.T) {
 	for n := range 10 {
-		for _, l := range cutsOf(around(n), 2) {
+		for _, l := range listsOf(around(n), 2) {
 			checkPieces(t, someText(n), l)
 		}
 	}
@@ -426,15 +409,15 @@ func TestPiecesOfOneAndTwoCuts(t *testing.T) {
 
 func TestPiecesOfAllShortLists(t *testing.T) {
 	for n := range 5 {
-		for _, l := range cutsOf(fewAround(n), 4) {
+		for _, l := range listsOf(fewAround(n), 4) {
 			checkPieces(t, someText(n), l)
 		}
 	}
 }
 
 func TestPiecesOfAllShortTexts(t *testing.T) {
-	for _, text := range shortTexts("\x00a\n\xff", 4) {
-		for _, l := range cutsOf(fewAround(len(text)), 2) {
+	for _, text := range listsOf([]byte("\x00a\n\xff"), 4) {
+		for _, l := range listsOf(fewAround(len(text)), 2) {
 			checkPieces(t, text, l)
 		}
 	}
@@ -443,7 +426,7 @@ func TestPiecesOfAllShortTexts(t *testing.T) {
 // TestPiecesArePlaces holds Pieces against Places: it is cut at these, whatever the cuts were.
 func TestPiecesArePlaces(t *testing.T) {
 	text := []byte("seine\x00\xff")
-	for _, l := range cutsOf([]int{math.MinInt, -1, 0, 1, 3, 6, 7, 8, math.MaxInt}, 4) {
+	for _, l := range listsOf([]int{math.MinInt, -1, 0, 1, 3, 6, 7, 8, math.MaxInt}, 4) {
 		at := cuts.Places(len(text), l...)
 		got, want := cuts.Pieces(text, l...), cuts.Pieces(text, at...)
 		if shown(got) != shown(want) {
@@ -589,7 +572,7 @@ func TestEachOfEachLength(t *testing.T) {
 }
 
 func TestEachOfAllShortTexts(t *testing.T) {
-	for _, text := range shortTexts("\x00a\n\xff", 5) {
+	for _, text := range listsOf([]byte("\x00a\n\xff"), 5) {
 		for _, n := range fewAround(len(text)) {
 			checkEach(t, text, n)
 		}
@@ -689,7 +672,7 @@ func TestEveryByteIsThere(t *testing.T) {
 
 func TestPiecesCutAgain(t *testing.T) {
 	text := []byte("abc\x00\xffde")
-	for _, l := range cutsOf(fewAround(len(text)), 2) {
+	for _, l := range listsOf(fewAround(len(text)), 2) {
 		for _, n := range []int{-1, 1, 2, 3} {
 			var again []byte
 			for _, p := range cuts.Pieces(text, l...) {
@@ -709,7 +692,7 @@ func TestPiecesCutAgain(t *testing.T) {
 // ways are the two that a text comes in pieces, each of many kinds, by its name.
 func ways() map[string]func([]byte) [][]byte {
 	all := map[string]func([]byte) [][]byte{}
-	for _, l := range append(cutsOf([]int{-1, 0, 1, 3, 5, 6, 9}, 2), []int{0, 1, 2, 2, 3, 4, 5, 6}) {
+	for _, l := range append(listsOf([]int{-1, 0, 1, 3, 5, 6, 9}, 2), []int{0, 1, 2, 2, 3, 4, 5, 6}) {
 		all[fmt.Sprint("Pieces at ", l)] = func(t []byte) [][]byte { return cuts.Pieces(t, l...) }
 	}
 	for n := -1; n < 8; n++ {
@@ -850,7 +833,7 @@ func TestAnswersAreNewMemory(t *testing.T) {
 }
 
 func TestCutsAreNeitherChangedNorKept(t *testing.T) {
-	for _, l := range append(cutsOf(fewAround(4), 3), someCuts(3, 50, 20)) {
+	for _, l := range append(listsOf(fewAround(4), 3), someCuts(3, 50, 20)) {
 		// There is room behind the cuts: what is put there must not show, nor be changed.
 		room := append(slices.Clone(l), 2, 1, 7, 7)
 		was := slices.Clone(room)
@@ -872,7 +855,7 @@ func TestCutsAreNeitherChangedNorKept(t *testing.T) {
 }
 
 func TestPlacesAreNewMemory(t *testing.T) {
-	for _, l := range cutsOf(fewAround(4), 3) {
+	for _, l := range listsOf(fewAround(4), 3) {
 		room := append(slices.Clone(l), 8, 9)
 		was := slices.Clone(room)
 		one, two := cuts.Places(4, room[:len(l)]...), cuts.Places(4, room[:len(l)]...)
